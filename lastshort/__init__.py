@@ -1,0 +1,1 @@
+"""Lastshort: loops that read in pieces."""

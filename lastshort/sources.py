@@ -1,7 +1,7 @@
 """Kinds of sources, and the replies that they can give."""
 
 from lastshort.checks import check_items, check_replies, check_size
-from lastshort.errors import InvalidWord
+from lastshort.errors import InvalidWord, NotASource
 from lastshort.limits import MOST_ITEMS
 
 AMOUNTS = ("exact", "short")
@@ -12,6 +12,11 @@ ENDS = ("empty", "with", "behind")
 def check_word(word, words):
     if not isinstance(word, str) or word not in words:
         raise InvalidWord(word)
+
+
+def check_source(source):
+    if not isinstance(source, Source):
+        raise NotASource(source)
 
 
 class Source:
@@ -42,7 +47,7 @@ class Source:
         check_replies(replies, MOST_ITEMS)
         left = items
         for count, told in replies:
-            if not self.can_hand_out(left, size, count) or told != self.must_tell(left, count):
+            if not self.can_hand_out(left, size, count) or told != self.must_tell(left, left - count):
                 return False
             left -= count
         return True
@@ -56,11 +61,11 @@ class Source:
             return count == min(size, left)
         return count <= min(size, left)
 
-    def must_tell(self, left, count):
-        """Return what told is in a reply with this count while so many are left."""
+    def must_tell(self, before, after):
+        """Return what told is in a reply before and after which so many items are left."""
         if self.end == "empty":
             return False
         if self.end == "behind":
-            return left == 0
-        # This holds for the reply with the last item, and for all behind it, where both are 0.
-        return count == left
+            return before == 0
+        # This holds for the reply with the last item, and for all behind it.
+        return after == 0

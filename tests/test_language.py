@@ -1,6 +1,7 @@
 """The rules of the Python subset that can be seen by a short look at the files of the package."""
 
 import ast
+import builtins
 import pathlib
 import re
 import unittest
@@ -41,6 +42,27 @@ def bound_names(tree):
         elif isinstance(node, ast.ExceptHandler) and node.name:
             names.add(node.name)
     return names
+
+
+def methods_of(path):
+    return {node.name for top in nodes_of(path) if isinstance(top, ast.ClassDef)
+            for node in top.body if isinstance(node, ast.FunctionDef)}
+
+
+def attributes_of(path):
+    return {node.attr for node in nodes_of(path)
+            if isinstance(node, ast.Attribute) and isinstance(node.ctx, ast.Store)}
+
+
+# What the interface lists, by file, as far as it is written.
+INTERFACE = {
+    "sources.py": {"Source": {"allows"}},
+    "loops.py": {"Loop": {"without", "run"}},
+    "samples.py": {"sample_loop": set(), "sample_source": set()},
+    "judging.py": {"always": set(), "failing": set(), "fault": set(), "needless": set()},
+}
+# Methods of the classes that the interface lists for later; no attribute may have their names.
+LATER_METHODS = set("number piece place_of feed feed_all undo trial say".split())
 
 
 class LanguageTest(unittest.TestCase):
@@ -99,6 +121,45 @@ class LanguageTest(unittest.TestCase):
             for node in nodes_of(path):
                 if isinstance(node, ast.Name) and isinstance(node.ctx, ast.Load):
                     self.assertIn(node.id, known, (path.name, node.lineno))
+
+    def test_the_interface_is_defined_in_its_files(self):
+        for name, listed in INTERFACE.items():
+            defined = {node.name: node for node in ast.parse(text_of(FOLDER / name)).body
+                       if isinstance(node, (ast.FunctionDef, ast.ClassDef))}
+            for entry, methods in listed.items():
+                self.assertIn(entry, defined, name)
+                own = {node.name for node in defined[entry].body if isinstance(node, ast.FunctionDef)}
+                self.assertLessEqual(methods, own, entry)
+
+    def test_no_name_is_a_method_and_an_attribute(self):
+        methods = set().union(*[methods_of(path) for path in FILES]) | LATER_METHODS
+        attributes = set().union(*[attributes_of(path) for path in FILES])
+        self.assertEqual(methods & attributes, set())
+
+    def test_names_are_not_those_of_builtins(self):
+        for path in FILES:
+            for name in bound_names(ast.parse(text_of(path))) - methods_of(path):
+                self.assertNotIn(name, dir(builtins), path.name)
+
+    def test_any_and_the_like_take_no_generator(self):
+        for path in FILES:
+            for node in nodes_of(path):
+                self.assertNotIsInstance(node, ast.GeneratorExp, path.name)
+
+    def test_statements_and_values_that_are_not_allowed(self):
+        barred = (ast.Global, ast.AsyncFunctionDef, ast.Await, ast.Div)
+        for path in FILES:
+            for node in nodes_of(path):
+                self.assertNotIsInstance(node, barred, path.name)
+                self.assertFalse(isinstance(node, ast.Constant) and isinstance(node.value, (float, complex)), path.name)
+
+    def test_no_two_files_import_from_each_other(self):
+        imports = {path.stem: {node.module.split(".")[1] for node in nodes_of(path) if isinstance(node, ast.ImportFrom)}
+                   for path in FILES}
+        while imports:
+            free = {name for name, others in imports.items() if not others & set(imports)}
+            self.assertTrue(free, imports)
+            imports = {name: others for name, others in imports.items() if name not in free}
 
 
 if __name__ == "__main__":

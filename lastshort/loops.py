@@ -95,17 +95,20 @@ class Loop:
         """Execute the loop as far as the replies reach."""
         check_size(size)
         check_replies(replies, size)
+        work = self.work_through(size, replies)
+        return tuple(work.handed), work.asked, work.over
+
+    def work_through(self, size, replies):
+        """Return this loop at work behind these replies, or behind those up to its stop."""
         work = self.execution(size, ())
-        used = 0
         first = 0
         for count, told in replies:
-            if work.stopped:
+            if work.over:
                 break
             work.answer(tuple(range(first, first + count)), told)
             first += count
-            used += 1
-        return tuple(work.pieces), used, work.stopped
+        return work
 
-    def execution(self, size, rest):
-        """Return this loop at work, with this rest, before its next question."""
-        return Execution(self.round_orders, self.ending_orders, size, rest)
+    def execution(self, size, kept):
+        """Return this loop at work, with these items in its rest, before its next question."""
+        return Execution(self.round_orders, self.ending_orders, size, kept)

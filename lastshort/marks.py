@@ -17,22 +17,22 @@ NAMES = ("whole", "filled", "even", "quiet", "ends")
 
 
 def mark_whole(mark, work, behind, left):
-    handed = [item for held in work.pieces for item in held]
+    handed = [item for held in work.handed for item in held]
     if mark == LOST or handed != list(range(len(handed))):
-        return FAULT if work.stopped else LOST
-    if work.stopped:
+        return FAULT if work.over else LOST
+    if work.over:
         return FINE if len(handed) == behind and left == 0 else FAULT
-    if work.rest == tuple(range(len(handed), behind)):
+    if work.kept == tuple(range(len(handed), behind)):
         return FINE
     return TWICE if len(handed) == behind else LOST
 
 
 def mark_filled(mark, work, behind, left):
-    return FAULT if () in work.pieces else FINE
+    return FAULT if () in work.handed else FINE
 
 
 def mark_even(mark, work, behind, left):
-    for held in work.pieces:
+    for held in work.handed:
         if mark == SHORT or len(held) > work.size:
             return FAULT
         if len(held) < work.size:
@@ -41,7 +41,7 @@ def mark_even(mark, work, behind, left):
 
 
 def mark_quiet(mark, work, behind, left):
-    return FAULT if work.told and not work.stopped else FINE
+    return FAULT if work.told and not work.over else FINE
 
 
 def mark_ends(mark, work, behind, left):

@@ -112,9 +112,9 @@ class Search:
         work.answer(tuple(range(low + rest, behind)), self.source.must_tell(before, left))
         marker = MARKERS[self.name]
         mark = marker(mark, work, behind, left)
-        if work.stopped and mark != FAULT:
+        if work.over and mark != FAULT:
             return None
-        return left, len(work.rest), mark
+        return left, len(work.kept), mark
 
     def is_fault(self, state, size):
         left, rest, mark = state
@@ -125,11 +125,5 @@ class Search:
     def never_stops(self, rest, size):
         """Tell whether the loop goes on for ever if no items are left."""
         work = self.loop.execution(size, tuple(range(rest)))
-        while True:
-            many = len(work.rest)
-            work.answer((), self.source.must_tell(0, 0))
-            if work.stopped:
-                return False
-            # Without new items only a change of the rest can make the next round another one.
-            if len(work.rest) == many:
-                return True
+        work.answer_nothing(self.source.must_tell(0, 0))
+        return not work.over

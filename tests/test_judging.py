@@ -8,6 +8,7 @@ from lastshort.loops import Loop
 from lastshort.samples import sample_loop, sample_source
 from lastshort.sources import Source
 from walking import ENDING_WORDS, KINDS, NAMES, ROUND_WORDS, is_uneven, least_faults, random_text, text_of
+from wrong import NO_LOOPS, NO_NAMES, NO_SOURCES, check_error
 
 NO, YES = False, True
 SOURCES = {kind: Source(*kind.split()) for kind in KINDS}
@@ -304,23 +305,9 @@ class NeedlessTest(unittest.TestCase):
                 self.assertEqual(needless(loop, SOURCES[kind]), expected, (text, kind))
 
 
-NO_LOOPS = [None, True, False, 0, 1, -1, 10 ** 19, "", "ask", "ask empty:stop hand", b"ask", (), ("ask",), [], ["ask"],
-            {}, {"ask": 1}, {"ask"}, object(), Loop, Loop("ask").run, sample_source(), ..., [[["ask"]]]]
-NO_SOURCES = [None, True, False, 0, 1, "", "short prompt empty", b"short", (), ("short", "prompt", "empty"), [],
-              ["short", "prompt", "empty"], {}, {"short"}, object(), Source, sample_loop(), sample_source, ...]
-NO_NAMES = [None, True, False, 0, 1, -1, 10 ** 19, "", " ", "Whole", "WHOLE", "whole ", " whole", "whole\n", "whol",
-            "end", "wholes", "whole filled", "empty", "short", "told", "fault", "always", b"whole", ("whole",),
-            ["whole"], {"whole": 1}, {"whole"}, (), [], {}, object(), str, NAMES, ..., [[["ends"]]], "x" * 500]
-
-
 class JudgingErrorsTest(unittest.TestCase):
     def check(self, error, wrong, act, **arguments):
-        for call in (lambda: act(*arguments.values()), lambda: act(**arguments),
-                     lambda: act(**dict(reversed(list(arguments.items()))))):
-            with self.assertRaises(error) as caught:
-                call()
-            self.assertIs(type(caught.exception), error)
-            self.assertIs(caught.exception.value, wrong)
+        check_error(self, error, "value", wrong, act, **arguments)
 
     def test_no_loops(self):
         for wrong in NO_LOOPS:

@@ -60,9 +60,12 @@ INTERFACE = {
     "loops.py": {"Loop": {"without", "run"}},
     "samples.py": {"sample_loop": set(), "sample_source": set()},
     "judging.py": {"always": set(), "failing": set(), "fault": set(), "needless": set()},
+    "comparing.py": {"first_unlike": set(), "alike": set(), "rounds": set()},
+    "chains.py": {"Chain": {"number", "piece", "place_of"}, "first_difference": set(), "widths_seen": set()},
+    "readings.py": {"Reading": {"feed", "feed_all", "undo", "trial"}, "within": set(), "attempt": set()},
 }
 # Methods of the classes that the interface lists for later; no attribute may have their names.
-LATER_METHODS = set("number piece place_of feed feed_all undo trial say".split())
+LATER_METHODS = {"say"}
 
 
 class LanguageTest(unittest.TestCase):

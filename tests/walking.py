@@ -173,3 +173,16 @@ def least_faults(text, kind, most_items):
             for name, replies in Walk(text, kind, items, size).found.items():
                 found.setdefault(name, (items, size, replies))
     return found
+
+
+def exact_run(text, end, items, size):
+    """With an exact and prompt source: the pieces and how often it is asked, or None if the loop never stops."""
+    worker, come, asked, empty = Worker(text, size), 0, 0, 0
+    while not worker.stopped:
+        [(count, told)] = possible_replies("exact prompt " + end, items - come, size)
+        worker.round(range(come, come + count), told)
+        come, asked, empty = come + count, asked + 1, empty + (count == 0)
+        # Without new items a round that differs from the one before has taken something from the rest.
+        if empty > items + 3 and not worker.stopped:
+            return None
+    return tuple(worker.handed_on), asked

@@ -54,7 +54,7 @@ def attributes_of(path):
             if isinstance(node, ast.Attribute) and isinstance(node.ctx, ast.Store)}
 
 
-# What the interface lists, by file, as far as it is written.
+# What the interface lists, by file.
 INTERFACE = {
     "sources.py": {"Source": {"allows"}},
     "loops.py": {"Loop": {"without", "run"}},
@@ -63,9 +63,11 @@ INTERFACE = {
     "comparing.py": {"first_unlike": set(), "alike": set(), "rounds": set()},
     "chains.py": {"Chain": {"number", "piece", "place_of"}, "first_difference": set(), "widths_seen": set()},
     "readings.py": {"Reading": {"feed", "feed_all", "undo", "trial"}, "within": set(), "attempt": set()},
+    "checker.py": {"holds": set()},
+    "certificates.py": {"certify": set(), "certify_unlike": set(), "certify_chains": set()},
+    "reports.py": {"fault_table": set(), "piece_table": set()},
+    "console.py": {"Console": {"say"}},
 }
-# Methods of the classes that the interface lists for later; no attribute may have their names.
-LATER_METHODS = {"say"}
 
 
 class LanguageTest(unittest.TestCase):
@@ -135,7 +137,7 @@ class LanguageTest(unittest.TestCase):
                 self.assertLessEqual(methods, own, entry)
 
     def test_no_name_is_a_method_and_an_attribute(self):
-        methods = set().union(*[methods_of(path) for path in FILES]) | LATER_METHODS
+        methods = set().union(*[methods_of(path) for path in FILES])
         attributes = set().union(*[attributes_of(path) for path in FILES])
         self.assertEqual(methods & attributes, set())
 

@@ -186,3 +186,37 @@ def exact_run(text, end, items, size):
         if empty > items + 3 and not worker.stopped:
             return None
     return tuple(worker.handed_on), asked
+
+
+def can_begin(kind, items, size, replies):
+    """Whether a source of this kind can begin with these replies."""
+    for reply in replies:
+        if reply not in possible_replies(kind, items, size):
+            return False
+        items -= reply[0]
+    return True
+
+
+def is_plain_fault(text, kind, name, items, size, replies):
+    """Whether this is a fault, as point 11 says; all numbers and replies must be of the right kinds."""
+    if not can_begin(kind, items, size, replies):
+        return False
+    worker, come, seen = Worker(text, size), 0, []
+    for count, told in replies:
+        if worker.stopped:
+            return False
+        worker.round(range(come, come + count), told)
+        come += count
+        # What can be said behind each reply; a fault shows behind the last one, and not earlier.
+        seen.append({
+            "filled": () in worker.handed_on,
+            "even": is_uneven(worker.handed_on, size),
+            "quiet": told and not worker.stopped,
+        })
+    if name == "whole":
+        return worker.stopped and [item for piece in worker.handed_on for item in piece] != list(range(items))
+    if name == "ends":
+        if worker.stopped or come != items or (replies and replies[-1][0] == 0):
+            return False
+        return goes_on_for_ever(text, kind, size, worker.rest)
+    return [shown[name] for shown in seen].count(True) == 1 and seen[-1][name]
